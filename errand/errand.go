@@ -4,6 +4,7 @@ package errand
 import (
 	"errand/api"
 	"errand/fault"
+	"errand/packet"
 	"errand/service"
 	"errand/shape"
 	"errand/value"
@@ -47,10 +48,24 @@ func Signature(kind int, proc int) (string, string, api.Errno) {
 }
 
 // Seal writes a packet as bytes (P7).
-func Seal(p api.Packet) (string, api.Errno) { return "", api.OK }
+func Seal(p api.Packet) (s string, e api.Errno) {
+	defer func() {
+		if r := recover(); r != nil {
+			s, e = "", fault.Caught(r).Errno
+		}
+	}()
+	return packet.Write(p), api.OK
+}
 
 // Open reads a packet (P8).
-func Open(s string) (api.Packet, api.Errno) { return api.Packet{}, api.OK }
+func Open(s string) (p api.Packet, e api.Errno) {
+	defer func() {
+		if r := recover(); r != nil {
+			p, e = api.Packet{}, fault.Caught(r).Errno
+		}
+	}()
+	return packet.Read(s), api.OK
+}
 
 // World is a server, clients, and the network between them.
 type World struct{}

@@ -28,6 +28,41 @@ func testAnything(t *testing.T, text string, value []api.Item, bytes string) {
 	}
 }
 
+// testAnyPacket makes the calls of packets with anything.
+func testAnyPacket(t *testing.T, p api.Packet, bytes string) {
+	t.Helper()
+	if s, e := errand.Seal(p); (s == "") != (e == api.ErrPacket) || e != api.OK && e != api.ErrPacket {
+		t.Errorf("P1: Seal(%s) = %q, %d", told(p), s, e)
+	}
+	if p, e := errand.Open(bytes); (p == api.Packet{}) != (e == api.ErrPacket) || e != api.OK && e != api.ErrPacket {
+		t.Errorf("P1: Open(%.200q) = %s, %d", bytes, told(p), e)
+	}
+}
+
+func drawAnyPacket(r *rand.Rand) api.Packet {
+	p := drawPacket(r)
+	for _, f := range freeFields() {
+		if r.Intn(10) == 0 {
+			*f.field(&p) = drawAnyNumber(r)
+		}
+	}
+	if r.Intn(10) == 0 {
+		p.Part = drawAnyNumber(r)
+	}
+	if r.Intn(10) == 0 {
+		p.Body = drawBytes(r, 400)
+	}
+	return p
+}
+
+func drawAnyNumber(r *rand.Rand) int {
+	numbers := []int{0, 1, 2, -1, 9, 255, 256, 65535, 65536, math.MinInt, math.MaxInt}
+	if r.Intn(2) == 0 {
+		return r.Int() - r.Int()
+	}
+	return numbers[r.Intn(len(numbers))]
+}
+
 func drawBytes(r *rand.Rand, most int) string {
 	b := make([]byte, r.Intn(most+1))
 	for i := range b {
@@ -75,6 +110,7 @@ func TestNoCallPanics(t *testing.T) {
 		}
 		errand.Signature(r.Int()-r.Int(), r.Int()-r.Int())
 		errand.Signature(r.Intn(5)-1, r.Intn(5)-1)
+		testAnyPacket(t, drawAnyPacket(r), bytes)
 	}
 }
 
@@ -87,6 +123,8 @@ func TestLongThingsEnd(t *testing.T) {
 		testAnything(t, text, list[1:], "")
 		testAnything(t, text, nil, strings.Repeat("\x00", 70))
 	}
+	testAnyPacket(t, api.Packet{Kind: api.Call, Life: 1, Seq: 1, Uid: 1, Of: 1, Body: long}, long)
+	testAnyPacket(t, api.Packet{}, packetBytes(samplePackets()[0])+long)
 }
 
 func TestMarshalLeavesWhatIsHandedIn(t *testing.T) {
@@ -147,6 +185,22 @@ func TestAnswersHangOnArgumentsAlone(t *testing.T) {
 		}
 		if again, e := errand.Unmarshal(s.text, bytes); !same(again, read) || e != readE {
 			t.Errorf("P2: Unmarshal(%q, %q) = %v, %d, then %v, %d", s.text, bytes, read, readE, again, e)
+		}
+	}
+}
+
+func TestPacketsHangOnArgumentsAlone(t *testing.T) {
+	r := rand.New(rand.NewSource(6))
+	for range 2000 {
+		p, bytes := drawAnyPacket(r), drawBent(r)
+		sealed, sealedE := errand.Seal(p)
+		opened, openedE := errand.Open(bytes)
+		testAnyPacket(t, drawAnyPacket(r), drawBytes(r, 30))
+		if again, e := errand.Seal(p); again != sealed || e != sealedE {
+			t.Errorf("P2: Seal(%s) = %q, %d, then %q, %d", told(p), sealed, sealedE, again, e)
+		}
+		if again, e := errand.Open(bytes); again != opened || e != openedE {
+			t.Errorf("P2: Open(%q) = %s, %d, then %s, %d", bytes, told(opened), openedE, told(again), e)
 		}
 	}
 }

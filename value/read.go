@@ -6,6 +6,7 @@ import (
 	"errand/api"
 	"errand/fault"
 	"errand/shape"
+	"errand/wire"
 )
 
 // Read answers the value that has these bytes; it gives up with a Fault if they are too many, or no value of the type has them.
@@ -13,57 +14,39 @@ func Read(t shape.Type, s string) []api.Item {
 	if isTooBig(len(s)) {
 		panic(fault.Fault{Errno: api.ErrBig})
 	}
-	r := reader{left: s}
+	r := reader{Reader: wire.Reader{Left: s, Wrong: api.ErrBytes}}
 	carry(t, &r)
-	if len(r.left) > 0 {
-		panic(noBytes())
-	}
+	r.End()
 	return r.items
 }
 
-func noBytes() fault.Fault { return fault.Fault{Errno: api.ErrBytes} }
-
 // reader carries bytes to items.
 type reader struct {
-	left  string
+	wire.Reader
 	items []api.Item
 }
 
-func (r *reader) take(count int) string {
-	if len(r.left) < count {
-		panic(noBytes())
-	}
-	taken := r.left[:count]
-	r.left = r.left[count:]
-	return taken
-}
-
-func (r *reader) twoBytes() int {
-	s := r.take(2)
-	return int(s[0])<<8 | int(s[1])
-}
-
 func (r *reader) number(low, high int) int {
-	n := r.twoBytes()
+	n := r.TwoBytes()
 	if low < 0 && n > high {
 		n -= 65536
 	}
 	if n < low || n > high {
-		panic(noBytes())
+		r.Refuse()
 	}
 	r.items = append(r.items, api.Item{N: n})
 	return n
 }
 
 func (r *reader) text() {
-	length := r.twoBytes()
+	length := r.TwoBytes()
 	if length > api.MaxString {
-		panic(noBytes())
+		r.Refuse()
 	}
 	// A copy: an item must not hold on to the bytes that were handed in.
-	s := strings.Clone(r.take(length))
-	if isOdd(length) && r.take(1) != "\x00" {
-		panic(noBytes())
+	s := strings.Clone(r.Take(length))
+	if isOdd(length) && r.Byte() != 0 {
+		r.Refuse()
 	}
 	r.items = append(r.items, api.Item{S: s})
 }

@@ -4,6 +4,7 @@ import (
 	"errand/api"
 	"errand/fault"
 	"errand/shape"
+	"errand/wire"
 )
 
 // Write answers the bytes of a value; it gives up with a Fault if the items are no value of the type, or its bytes too many.
@@ -41,7 +42,7 @@ func (w *writer) number(low, high int) int {
 	if x.S != "" || x.N < low || x.N > high {
 		panic(noValue())
 	}
-	w.twoBytes(x.N)
+	w.out = wire.AppendTwo(w.out, x.N)
 	return x.N
 }
 
@@ -50,15 +51,9 @@ func (w *writer) text() {
 	if x.N != 0 || len(x.S) > api.MaxString {
 		panic(noValue())
 	}
-	w.twoBytes(len(x.S))
+	w.out = wire.AppendTwo(w.out, len(x.S))
 	w.out = append(w.out, x.S...)
 	if isOdd(len(x.S)) {
 		w.out = append(w.out, 0)
 	}
-}
-
-// twoBytes leans on uint16's wrap-round: it makes a number below 0 that number plus 65536.
-func (w *writer) twoBytes(n int) {
-	u := uint16(n)
-	w.out = append(w.out, byte(u>>8), byte(u))
 }
