@@ -18,7 +18,7 @@ var signatures = [...]signature{
 
 // Signature tells the types of a procedure's argument and of its result.
 func Signature(kind int, proc int) (string, string, api.Errno) {
-	if !isKind(kind) {
+	if !IsKind(kind) {
 		return "", "", api.ErrArg
 	}
 	for _, s := range signatures {
@@ -29,7 +29,8 @@ func Signature(kind int, proc int) (string, string, api.Errno) {
 	return "", "", api.ErrProc
 }
 
-func isKind(kind int) bool {
+// IsKind tells whether there is such a kind.
+func IsKind(kind int) bool {
 	switch kind {
 	case api.Counter, api.Board, api.Desk:
 		return true

@@ -1,0 +1,87 @@
+// Package caller: the clients, the hosts that call.
+package caller
+
+import (
+	"slices"
+
+	"errand/api"
+	"errand/message"
+	"errand/network"
+	"errand/service"
+	"errand/shape"
+	"errand/value"
+	"errand/wire"
+)
+
+// Client is a host that calls.
+type Client struct {
+	number int
+	life   int
+	bound  map[int]int // by uid, the kind of each service to which it is bound
+	lines  []line
+	retry  int // what a wait begins with
+	tries  int // what the tries begin with
+	net    *network.Network
+}
+
+// New makes a client in its first life.
+func New(number int, c api.Config, net *network.Network) *Client {
+	return &Client{
+		number: number,
+		life:   1,
+		bound:  map[int]int{},
+		lines:  make([]line, c.Lines),
+		retry:  c.Retry,
+		tries:  c.Tries,
+		net:    net,
+	}
+}
+
+// Bind lets the client call a service from now on.
+func (c *Client) Bind(uid int, kind int) {
+	c.bound[uid] = kind
+}
+
+// Call begins a call, and tells its seq; it gives up with a Fault if arg is no value of the argument's type.
+func (c *Client) Call(number int, uid int, proc int, arg []api.Item) (int, api.Errno) {
+	if !c.hasLine(number) {
+		return 0, api.ErrLine
+	}
+	kind, isBound := c.bound[uid]
+	if !isBound {
+		return 0, api.ErrBound
+	}
+	argument, _, e := service.Signature(kind, proc)
+	if e != api.OK {
+		return 0, e
+	}
+	// Ahead of the line's own errors: it may give up, and a wrong argument is named first.
+	m := callMessage(proc, argument, arg)
+	l := &c.lines[number]
+	if l.state == api.Waiting {
+		return 0, api.ErrBusy
+	}
+	if l.seq == api.MaxSeq {
+		return 0, api.ErrSpent
+	}
+	l.begin(call{uid: uid, message: m})
+	c.restAnew(l)
+	c.sendPiece(number, false)
+	return l.seq, api.OK
+}
+
+// Status tells how a line is.
+func (c *Client) Status(number int) (api.Status, api.Errno) {
+	if !c.hasLine(number) {
+		return api.Status{}, api.ErrLine
+	}
+	l := c.lines[number]
+	return api.Status{State: l.state, Seq: l.seq, Result: slices.Clone(l.result)}, api.OK
+}
+
+func (c *Client) hasLine(number int) bool { return number >= 0 && number < len(c.lines) }
+
+func callMessage(proc int, argument string, arg []api.Item) message.Message {
+	head := string(wire.AppendTwo(nil, proc))
+	return message.Message(head + value.Write(shape.Read(argument), arg))
+}
