@@ -5,12 +5,8 @@ import (
 	"slices"
 
 	"errand/api"
-	"errand/message"
 	"errand/network"
 	"errand/service"
-	"errand/shape"
-	"errand/value"
-	"errand/wire"
 )
 
 // Client is a host that calls.
@@ -42,7 +38,7 @@ func (c *Client) Bind(uid int, kind int) {
 	c.bound[uid] = kind
 }
 
-// Call begins a call, and tells its seq; it gives up with a Fault if arg is no value of the argument's type.
+// Call begins a call, and tells its seq; it gives up with a Fault if there is no such procedure, or arg is no value of its argument's type.
 func (c *Client) Call(number int, uid int, proc int, arg []api.Item) (int, api.Errno) {
 	if !c.hasLine(number) {
 		return 0, api.ErrLine
@@ -51,12 +47,8 @@ func (c *Client) Call(number int, uid int, proc int, arg []api.Item) (int, api.E
 	if !isBound {
 		return 0, api.ErrBound
 	}
-	argument, _, e := service.Signature(kind, proc)
-	if e != api.OK {
-		return 0, e
-	}
-	// Ahead of the line's own errors: it may give up, and a wrong argument is named first.
-	m := callMessage(proc, argument, arg)
+	// Ahead of the line's own errors: it may give up, and a wrong procedure or argument is named first.
+	m := service.WriteCall(kind, proc, arg)
 	l := &c.lines[number]
 	if l.state == api.Waiting {
 		return 0, api.ErrBusy
@@ -64,7 +56,7 @@ func (c *Client) Call(number int, uid int, proc int, arg []api.Item) (int, api.E
 	if l.seq == api.MaxSeq {
 		return 0, api.ErrSpent
 	}
-	l.begin(call{uid: uid, message: m})
+	l.begin(call{uid: uid, proc: proc, message: m})
 	c.restAnew(l)
 	c.sendPiece(number, false)
 	return l.seq, api.OK
@@ -80,8 +72,3 @@ func (c *Client) Status(number int) (api.Status, api.Errno) {
 }
 
 func (c *Client) hasLine(number int) bool { return number >= 0 && number < len(c.lines) }
-
-func callMessage(proc int, argument string, arg []api.Item) message.Message {
-	head := string(wire.AppendTwo(nil, proc))
-	return message.Message(head + value.Write(shape.Read(argument), arg))
-}

@@ -16,10 +16,12 @@ type line struct {
 // call is what a client knows of a call that is under way.
 type call struct {
 	uid     int
+	proc    int
 	message message.Message
-	acked   int // how many pieces were acknowledged, from the first on
-	wait    int // how many ticks until it sends again
-	tries   int // how often it may still do that
+	acked   int             // how many of its pieces were acknowledged, from the first on
+	result  message.Message // what has come of the result's, from the first piece on
+	wait    int             // how many ticks until it sends again
+	tries   int             // how often it may still do that
 }
 
 func (l *line) begin(c call) {
@@ -28,4 +30,9 @@ func (l *line) begin(c call) {
 
 func (l *line) end(state int) {
 	*l = line{state: state, seq: l.seq}
+}
+
+func (l *line) endWith(result []api.Item) {
+	l.end(api.Done)
+	l.result = result
 }

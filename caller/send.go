@@ -59,6 +59,11 @@ func (c *Client) sendPiece(number int, again bool) {
 	})
 }
 
+// sendGot acknowledges a piece of the result.
+func (c *Client) sendGot(piece api.Packet) {
+	c.send(piece.Line, api.Packet{Kind: api.Got, Part: piece.Part, Of: piece.Of})
+}
+
 func (c *Client) send(number int, p api.Packet) {
 	l := c.lines[number]
 	p.Client = c.number

@@ -20,7 +20,7 @@ func drawConfig(r *rand.Rand) api.Config {
 
 // drawNear makes a number of those that may be, or one beside them, or any.
 func drawNear(r *rand.Rand, low, high int) int {
-	switch r.Intn(12) {
+	switch r.Intn(40) {
 	case 0:
 		return low - 1
 	case 1:
@@ -45,7 +45,7 @@ func drawName(r *rand.Rand) string {
 
 // drawArgument makes an argument of that procedure, or near one.
 func drawArgument(r *rand.Rand, kind, proc int) []api.Item {
-	if r.Intn(6) == 0 {
+	if r.Intn(12) == 0 {
 		return drawItems(r, 6)
 	}
 	switch {
@@ -85,59 +85,145 @@ func (b bothWorlds) drawCall(r *rand.Rand, client, line int) string {
 	return fmt.Sprintf("Call(%d, %d, %d, %d, %s), which is %d", client, line, uid, proc, toldItems(arg), e)
 }
 
-// step makes one call, with anything, at the world and at the words; it tells which.
-func (b bothWorlds) step(r *rand.Rand) string {
-	b.t.Helper()
-	clients, lines := b.words.config.Clients, b.words.config.Lines
-	client, line := drawNear(r, 0, clients-1), drawNear(r, 0, lines-1)
-	i := drawNear(r, 0, max(0, len(b.words.flying)-1))
-	switch r.Intn(32) {
-	case 0:
-		name, kind := drawName(r), drawNear(r, 0, 2)
-		b.export(name, kind)
-		return fmt.Sprintf("Export(%q, %d)", name, kind)
-	case 1:
-		name := drawName(r)
-		b.withdraw(name)
-		return fmt.Sprintf("Withdraw(%q)", name)
-	case 2, 3, 4, 5, 6, 7, 8:
-		name := drawName(r)
-		b.bind(client, name)
-		return fmt.Sprintf("Import(%d, %q)", client, name)
-	case 9, 10, 11, 12, 13, 14, 15, 16, 17, 18:
-		return b.drawCall(r, client, line)
-	case 19, 20, 21, 22, 23, 24:
-		b.tick()
-		return "Tick"
-	case 25:
-		b.status(client, line)
-		b.show(i)
-		return "Status and Show"
-	case 26:
-		b.drop(i)
-		return fmt.Sprintf("Drop(%d)", i)
-	case 27, 28, 29, 30:
-		b.copy(i)
-		return fmt.Sprintf("Copy(%d)", i)
+// action makes one call, with anything, at a world and at the words; it tells which.
+type action struct {
+	often int
+	make  func(bothWorlds, *rand.Rand) string
+}
+
+func actions() []action {
+	return []action{
+		{1, bothWorlds.drawExport}, {1, bothWorlds.drawWithdraw}, {5, bothWorlds.drawImport},
+		{30, func(b bothWorlds, r *rand.Rand) string { return b.drawCall(r, b.drawClient(r), b.drawLine(r)) }},
+		{15, func(b bothWorlds, r *rand.Rand) string { b.tick(); return "Tick" }},
+		{2, bothWorlds.drawLook}, {3, bothWorlds.drawDrop}, {5, bothWorlds.drawCopy}, {2, bothWorlds.drawBend},
+		{80, bothWorlds.drawDeliver},
+		{20, func(b bothWorlds, r *rand.Rand) string { return fmt.Sprintf("Serve, which is %d", b.serve()) }},
 	}
-	at, by := drawNear(r, 0, 16), drawNear(r, 1, 255)
+}
+
+// drawMood makes some actions come more often than usual, so that worlds are unlike one another: one fills its queue of jobs, one its network.
+func drawMood(r *rand.Rand) []action {
+	list := actions()
+	for i := range list {
+		list[i].often *= []int{1, 1, 2, 5}[r.Intn(4)]
+	}
+	return list
+}
+
+func drawAction(r *rand.Rand, mood []action) action {
+	all := 0
+	for _, a := range mood {
+		all += a.often
+	}
+	n := r.Intn(all)
+	for _, a := range mood {
+		if n < a.often {
+			return a
+		}
+		n -= a.often
+	}
+	return mood[0]
+}
+
+func (b bothWorlds) drawClient(r *rand.Rand) int { return drawNear(r, 0, b.words.config.Clients-1) }
+
+func (b bothWorlds) drawLine(r *rand.Rand) int { return drawNear(r, 0, b.words.config.Lines-1) }
+
+func (b bothWorlds) drawFlying(r *rand.Rand) int {
+	return drawNear(r, 0, max(0, len(b.words.flying)-1))
+}
+
+func (b bothWorlds) drawExport(r *rand.Rand) string {
+	b.t.Helper()
+	name, kind := drawName(r), drawNear(r, 0, 2)
+	b.export(name, kind)
+	return fmt.Sprintf("Export(%q, %d)", name, kind)
+}
+
+func (b bothWorlds) drawWithdraw(r *rand.Rand) string {
+	b.t.Helper()
+	name := drawName(r)
+	b.withdraw(name)
+	return fmt.Sprintf("Withdraw(%q)", name)
+}
+
+func (b bothWorlds) drawImport(r *rand.Rand) string {
+	b.t.Helper()
+	client, name := b.drawClient(r), drawName(r)
+	b.bind(client, name)
+	return fmt.Sprintf("Import(%d, %q)", client, name)
+}
+
+func (b bothWorlds) drawLook(r *rand.Rand) string {
+	b.t.Helper()
+	b.status(b.drawClient(r), b.drawLine(r))
+	b.show(b.drawFlying(r))
+	uid := drawNear(r, 1, max(1, len(b.words.kinds)))
+	count := b.log("a Log", uid)
+	b.entry("a Log", uid, drawNear(r, 0, max(0, count-1)))
+	return "Status, Show, Log and Entry"
+}
+
+func (b bothWorlds) drawDrop(r *rand.Rand) string {
+	b.t.Helper()
+	i := b.drawFlying(r)
+	b.drop(i)
+	return fmt.Sprintf("Drop(%d)", i)
+}
+
+func (b bothWorlds) drawCopy(r *rand.Rand) string {
+	b.t.Helper()
+	i := b.drawFlying(r)
+	b.copy(i)
+	return fmt.Sprintf("Copy(%d)", i)
+}
+
+func (b bothWorlds) drawBend(r *rand.Rand) string {
+	b.t.Helper()
+	i, at, by := b.drawFlying(r), drawNear(r, 0, 16), drawNear(r, 1, 255)
 	b.bend(i, at, by)
 	return fmt.Sprintf("Bend(%d, %d, %d)", i, at, by)
+}
+
+func (b bothWorlds) drawDeliver(r *rand.Rand) string {
+	b.t.Helper()
+	i := b.drawFlying(r)
+	if r.Intn(3) == 0 {
+		i = 0
+	}
+	b.deliver(i)
+	return fmt.Sprintf("Deliver(%d)", i)
+}
+
+// drawWorld makes a new world, or one in which calls can be made at once.
+func drawWorld(t *testing.T, r *rand.Rand) bothWorlds {
+	t.Helper()
+	if r.Intn(3) == 0 {
+		return newBoth(t, drawConfig(r))
+	}
+	return newAll(t, drawConfig(r))
 }
 
 // TestDrawnWorlds makes drawn calls at several worlds by turns: each must be what the words say of it alone.
 func TestDrawnWorlds(t *testing.T) {
 	r := rand.New(rand.NewSource(9))
 	for range 60 {
-		worlds := make([]bothWorlds, 3)
+		worlds, moods := make([]bothWorlds, 3), make([][]action, 3)
 		for i := range worlds {
-			worlds[i] = newBoth(t, drawConfig(r))
+			worlds[i], moods[i] = drawWorld(t, r), drawMood(r)
 		}
-		for range 900 {
-			behind := worlds[r.Intn(len(worlds))].step(r)
-			for _, b := range worlds {
-				b.look(behind)
+		for range 100 {
+			for range 50 {
+				i := r.Intn(len(worlds))
+				worlds[i].look(drawAction(r, moods[i]).make(worlds[i], r))
 			}
+			for _, b := range worlds {
+				b.look("what was done in other worlds")
+			}
+		}
+		for _, b := range worlds {
+			b.lookAtLogs("all")
 		}
 	}
 }

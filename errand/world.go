@@ -20,9 +20,10 @@ func New(c api.Config) (*World, api.Errno) {
 	if !isRight(c) {
 		return nil, api.ErrConfig
 	}
-	w := &World{net: &network.Network{}, server: server.New()}
+	net := &network.Network{}
+	w := &World{net: net, server: server.New(c, net)}
 	for number := range c.Clients {
-		w.clients = append(w.clients, caller.New(number, c, w.net))
+		w.clients = append(w.clients, caller.New(number, c, net))
 	}
 	return w, api.OK
 }
@@ -83,11 +84,12 @@ func (w *World) Status(client int, line int) (api.Status, api.Errno) {
 
 func (w *World) hasClient(number int) bool { return number >= 0 && number < len(w.clients) }
 
-// Tick lets time go by (P12).
+// Tick lets time go by (P12, P17).
 func (w *World) Tick() {
 	for _, c := range w.clients {
 		c.Tick()
 	}
+	w.server.Tick()
 }
 
 // Flying tells how many packets fly (P13).
@@ -106,16 +108,36 @@ func (w *World) Copy(i int) api.Errno { return w.net.Copy(i) }
 func (w *World) Bend(i int, at int, by int) api.Errno { return w.net.Bend(i, at, by) }
 
 // Deliver hands a packet to its host (P14 to P16).
-func (w *World) Deliver(i int) api.Errno { return api.OK }
+func (w *World) Deliver(i int) api.Errno {
+	host, bytes, e := w.net.Land(i)
+	if e != api.OK {
+		return e
+	}
+	p, e := Open(bytes)
+	if e != api.OK {
+		// It was bent on its way: whoever sent it is not told, as if it was lost.
+		return api.OK
+	}
+	w.hand(host, p)
+	return api.OK
+}
+
+func (w *World) hand(host int, p api.Packet) {
+	if host == api.Server {
+		w.server.Take(p)
+		return
+	}
+	w.clients[host].Take(p)
+}
 
 // Serve lets the server do a call (P17).
-func (w *World) Serve() api.Errno { return api.OK }
+func (w *World) Serve() api.Errno { return w.server.Serve() }
 
 // Log tells how many calls a service has done (P18).
-func (w *World) Log(uid int) (int, api.Errno) { return 0, api.OK }
+func (w *World) Log(uid int) (int, api.Errno) { return w.server.Log(uid) }
 
 // Entry tells a call that a service has done (P18).
-func (w *World) Entry(uid int, k int) (api.Entry, api.Errno) { return api.Entry{}, api.OK }
+func (w *World) Entry(uid int, k int) (api.Entry, api.Errno) { return w.server.Entry(uid, k) }
 
 // Crash begins a host anew (P19).
 func (w *World) Crash(host int) api.Errno { return api.OK }

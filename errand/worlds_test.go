@@ -9,233 +9,6 @@ import (
 	"errand/errand"
 )
 
-// worldByWords is what the document says of a world in P9 to P13, written out plainly, with nothing of the program in it.
-type worldByWords struct {
-	config api.Config
-	names  map[string]int
-	kinds  []int // of the services, in the order of their uids
-	bound  [3]map[int]int
-	lines  [3][3]lineByWords
-	flying []flightByWords
-}
-
-type lineByWords struct {
-	state, seq, uid, wait, tries int
-	message                      string
-}
-
-type flightByWords struct {
-	host  int
-	bytes string
-	bent  bool
-}
-
-// newByWords is P9, with the bounds written out from the document.
-func newByWords(c api.Config) (*worldByWords, api.Errno) {
-	for _, f := range configFields() {
-		if n := *f.field(&c); n < 1 || n > f.high {
-			return nil, 8
-		}
-	}
-	w := &worldByWords{config: c, names: map[string]int{}}
-	for i := range w.bound {
-		w.bound[i] = map[int]int{}
-	}
-	return w, 0
-}
-
-func isNameByWords(name string) bool {
-	for _, r := range name {
-		if r < 'a' || r > 'z' {
-			return false
-		}
-	}
-	return len(name) >= 1 && len(name) <= 8
-}
-
-func (w *worldByWords) export(name string, kind int) (int, api.Errno) {
-	_, isThere := w.names[name]
-	switch {
-	case !isNameByWords(name):
-		return 0, 10
-	case kind != 0 && kind != 1 && kind != 2:
-		return 0, 9
-	case !isThere && len(w.names) >= 6:
-		return 0, 12
-	case len(w.kinds) >= 255:
-		return 0, 11
-	}
-	w.kinds = append(w.kinds, kind)
-	w.names[name] = len(w.kinds)
-	return len(w.kinds), 0
-}
-
-func (w *worldByWords) withdraw(name string) api.Errno {
-	if w.names[name] == 0 {
-		return 10
-	}
-	delete(w.names, name)
-	return 0
-}
-
-func (w *worldByWords) hasClient(client int) bool { return client >= 0 && client < w.config.Clients }
-
-func (w *worldByWords) hasLine(line int) bool { return line >= 0 && line < w.config.Lines }
-
-func (w *worldByWords) bind(client int, name string) (int, int, api.Errno) {
-	if !w.hasClient(client) {
-		return 0, 0, 13
-	}
-	uid := w.names[name]
-	if uid == 0 {
-		return 0, 0, 10
-	}
-	w.bound[client][uid] = uid
-	return uid, w.kinds[uid-1], 0
-}
-
-// argumentByWords tells the bytes of an argument, and whether it is a value of the type that the procedure's argument has.
-func argumentByWords(kind, proc int, arg []api.Item) (string, bool) {
-	number := func(i, low, high int) bool {
-		return i < len(arg) && arg[i].S == "" && arg[i].N >= low && arg[i].N <= high
-	}
-	count, right := 1, false
-	switch [2]int{kind, proc} {
-	case [2]int{0, 0}:
-		right = number(0, -32768, 32767)
-	case [2]int{0, 1}:
-		right = number(0, 0, 1)
-	case [2]int{1, 0}:
-		right = len(arg) > 0 && arg[0].N == 0 && len(arg[0].S) <= 14
-	case [2]int{1, 1}:
-		right = number(0, 0, 65535)
-	case [2]int{2, 0}:
-		right = number(0, 0, 2) && number(1, 0, 3)
-		if right {
-			count = 2 + arg[1].N
-		}
-		for i := 2; i < count; i++ {
-			right = right && number(i, -32768, 32767)
-		}
-	}
-	if !right || len(arg) != count {
-		return "", false
-	}
-	bytes := ""
-	for _, x := range arg {
-		if kind != 1 || proc != 0 {
-			bytes += twoBytes(x.N)
-			continue
-		}
-		bytes += twoBytes(len(x.S)) + x.S
-		if len(x.S)%2 == 1 {
-			bytes += "\x00"
-		}
-	}
-	return bytes, true
-}
-
-func (w *worldByWords) call(client, line, uid, proc int, arg []api.Item) (int, api.Errno) {
-	switch {
-	case !w.hasClient(client):
-		return 0, 13
-	case !w.hasLine(line):
-		return 0, 14
-	case uid == 0 || w.bound[client][uid] != uid:
-		return 0, 15
-	}
-	kind, procs := w.kinds[uid-1], []int{2, 2, 1}
-	if proc < 0 || proc >= procs[kind] {
-		return 0, 16
-	}
-	bytes, right := argumentByWords(kind, proc, arg)
-	l := &w.lines[client][line]
-	switch {
-	case !right:
-		return 0, 4
-	case l.state == 1:
-		return 0, 17
-	case l.seq == 999:
-		return 0, 11
-	}
-	*l = lineByWords{state: 1, seq: l.seq + 1, uid: uid, wait: w.config.Retry, tries: w.config.Tries, message: twoBytes(proc) + bytes}
-	w.sendFirstPiece(client, line, len(l.message) > 8)
-	return l.seq, 0
-}
-
-// sendFirstPiece is all that a client sends as long as nothing is delivered.
-func (w *worldByWords) sendFirstPiece(client, line int, please bool) {
-	if len(w.flying) >= 40 {
-		return
-	}
-	l := w.lines[client][line]
-	pieces := 0
-	for left := len(l.message); left > 0; left -= 8 {
-		pieces++
-	}
-	p := api.Packet{Kind: 1, Client: client, Life: 1, Line: line, Seq: l.seq, Uid: l.uid, Part: 0, Of: pieces, Please: please, Body: l.message}
-	if len(p.Body) > 8 {
-		p.Body = p.Body[:8]
-	}
-	w.flying = append(w.flying, flightByWords{host: -1, bytes: packetBytes(p)})
-}
-
-func (w *worldByWords) tick() {
-	for client := range w.config.Clients {
-		for line := range w.config.Lines {
-			l := &w.lines[client][line]
-			if l.state != 1 {
-				continue
-			}
-			l.wait--
-			if l.wait != 0 {
-				continue
-			}
-			if l.tries == 0 {
-				l.state = 3
-				continue
-			}
-			l.tries--
-			l.wait = w.config.Retry
-			w.sendFirstPiece(client, line, true)
-		}
-	}
-}
-
-func (w *worldByWords) isFlying(i int) bool { return i >= 0 && i < len(w.flying) }
-
-func (w *worldByWords) drop(i int) api.Errno {
-	if !w.isFlying(i) {
-		return 9
-	}
-	w.flying = append(slices.Clone(w.flying[:i]), w.flying[i+1:]...)
-	return 0
-}
-
-func (w *worldByWords) copy(i int) api.Errno {
-	if !w.isFlying(i) {
-		return 9
-	}
-	if len(w.flying) >= 40 {
-		return 12
-	}
-	w.flying = append(w.flying, w.flying[i])
-	return 0
-}
-
-func (w *worldByWords) bend(i, at, by int) api.Errno {
-	if !w.isFlying(i) || at < 0 || at >= len(w.flying[i].bytes) || by < 1 || by > 255 {
-		return 9
-	}
-	if w.flying[i].bent {
-		return 18
-	}
-	b := []byte(w.flying[i].bytes)
-	b[at] ^= byte(by)
-	w.flying[i] = flightByWords{host: w.flying[i].host, bytes: string(b), bent: true}
-	return 0
-}
-
 // bothWorlds is a world of the program, beside what the document says of it.
 type bothWorlds struct {
 	t     *testing.T
@@ -253,7 +26,7 @@ func newBoth(t *testing.T, c api.Config) bothWorlds {
 	return bothWorlds{t, w, words}
 }
 
-// look holds all that can be seen of the world against the words.
+// look holds all that can be seen of the world against the words, but for the older entries of the logs.
 func (b bothWorlds) look(behind string) {
 	b.t.Helper()
 	if n := b.world.Flying(); n != len(b.words.flying) {
@@ -266,12 +39,78 @@ func (b bothWorlds) look(behind string) {
 	}
 	for client := range b.words.config.Clients {
 		for line := range b.words.config.Lines {
-			l := b.words.lines[client][line]
-			if s, e := b.world.Status(client, line); s.State != l.state || s.Seq != l.seq || len(s.Result) != 0 || e != api.OK {
-				b.t.Fatalf("P11: behind %s: Status(%d, %d) = %+v, %d, want %d, %d", behind, client, line, s, e, l.state, l.seq)
-			}
+			b.lookAt(behind, client, line)
 		}
 	}
+	for i := range b.words.kinds {
+		if last := b.log(behind, i+1) - 1; last >= 0 {
+			b.entry(behind, i+1, last)
+		}
+	}
+}
+
+// lookAt looks at a line; it writes into the result, and behind it, so that whatever hangs on that is seen by the next look.
+func (b bothWorlds) lookAt(behind string, client, line int) {
+	b.t.Helper()
+	want, wantE := b.words.status(client, line)
+	s, e := b.world.Status(client, line)
+	if s.State != want.State || s.Seq != want.Seq || !same(s.Result, want.Result) || e != wantE {
+		b.t.Fatalf("P11: behind %s: Status(%d, %d) = %+v, %d, want %+v, %d", behind, client, line, s, e, want, wantE)
+	}
+	writeInto(s.Result, "the result")
+}
+
+// log looks at how many calls a service has done, and tells it.
+func (b bothWorlds) log(behind string, uid int) int {
+	b.t.Helper()
+	n, e := b.world.Log(uid)
+	if want, wantE := b.words.log(uid); n != want || e != wantE {
+		b.t.Fatalf("P18: behind %s: Log(%d) = %d, %d, want %d, %d", behind, uid, n, e, want, wantE)
+	}
+	return n
+}
+
+// entry looks at a call that a service has done, and writes into both lists, and behind them.
+func (b bothWorlds) entry(behind string, uid, k int) {
+	b.t.Helper()
+	want, wantE := b.words.entry(uid, k)
+	x, e := b.world.Entry(uid, k)
+	if !sameEntry(x, want) || e != wantE {
+		b.t.Fatalf("P18: behind %s: Entry(%d, %d) = %+v, %d, want %+v, %d", behind, uid, k, x, e, want, wantE)
+	}
+	writeInto(x.Arg, "the argument")
+	if !same(x.Result, want.Result) {
+		b.t.Fatalf("P2: behind %s: the lists of Entry(%d, %d) share memory", behind, uid, k)
+	}
+	writeInto(x.Result, "the result")
+	for _, i := range x.Arg {
+		if i.S != "the argument" {
+			b.t.Fatalf("P2: behind %s: the lists of Entry(%d, %d) share memory", behind, uid, k)
+		}
+	}
+}
+
+// lookAtLogs looks at all entries, and at the places beside them.
+func (b bothWorlds) lookAtLogs(behind string) {
+	b.t.Helper()
+	for uid := -1; uid <= len(b.words.kinds)+1; uid++ {
+		count := b.log(behind, uid)
+		for k := -1; k <= count; k++ {
+			b.entry(behind, uid, k)
+		}
+	}
+}
+
+func writeInto(list []api.Item, what string) {
+	whole := list[:cap(list)]
+	for i := range whole {
+		whole[i] = api.Item{N: 99, S: what}
+	}
+}
+
+func sameEntry(a, b api.Entry) bool {
+	isSame := same(a.Arg, b.Arg) && same(a.Result, b.Result)
+	return isSame && a.Client == b.Client && a.Life == b.Life && a.Line == b.Line && a.Seq == b.Seq && a.Proc == b.Proc
 }
 
 func (b bothWorlds) export(name string, kind int) int {
@@ -338,19 +177,23 @@ func (b bothWorlds) show(i int) {
 
 func (b bothWorlds) status(client, line int) {
 	b.t.Helper()
-	var want lineByWords
-	wantE := api.OK
-	switch {
-	case !b.words.hasClient(client):
-		wantE = api.ErrClient
-	case !b.words.hasLine(line):
-		wantE = api.ErrLine
-	default:
-		want = b.words.lines[client][line]
+	b.lookAt("something", client, line)
+}
+
+func (b bothWorlds) deliver(i int) {
+	b.t.Helper()
+	if e, want := b.world.Deliver(i), b.words.deliver(i); e != want {
+		b.t.Fatalf("P14: Deliver(%d) = %d, want %d", i, e, want)
 	}
-	if s, e := b.world.Status(client, line); s.State != want.state || s.Seq != want.seq || len(s.Result) != 0 || e != wantE {
-		b.t.Fatalf("P11: Status(%d, %d) = %+v, %d, want %d, %d, %d", client, line, s, e, want.state, want.seq, wantE)
+}
+
+func (b bothWorlds) serve() api.Errno {
+	b.t.Helper()
+	e := b.world.Serve()
+	if want := b.words.serve(); e != want {
+		b.t.Fatalf("P17: Serve() = %d, want %d", e, want)
 	}
+	return e
 }
 
 func (b bothWorlds) drop(i int) {

@@ -40,11 +40,18 @@ func (n *Network) Show(i int) (int, string, api.Errno) {
 
 // Drop loses a packet.
 func (n *Network) Drop(i int) api.Errno {
-	if !n.has(i) {
-		return api.ErrArg
+	_, _, e := n.Land(i)
+	return e
+}
+
+// Land lets a packet fly no longer, and tells where it flew to, and its bytes.
+func (n *Network) Land(i int) (int, string, api.Errno) {
+	host, bytes, e := n.Show(i)
+	if e != api.OK {
+		return 0, "", e
 	}
 	n.flying = slices.Delete(n.flying, i, i+1)
-	return api.OK
+	return host, bytes, api.OK
 }
 
 // Copy makes a packet fly twice.

@@ -5,24 +5,31 @@ import (
 	"strings"
 
 	"errand/api"
+	"errand/network"
 	"errand/service"
 )
 
 // Server is that host.
 type Server struct {
-	names map[string]int // the registry: the uid of the service for which each name stands
-	made  []made         // every service that was made, that with the uid 1 first
+	config api.Config
+	names  map[string]int                      // the registry: the uid of the service for which each name stands
+	made   []made                              // every service that was made, that with the uid 1 first
+	lives  [api.MaxClients]int                 // of each client, the greatest life of which a packet came
+	lines  [api.MaxClients][api.MaxLines]*line // those that it remembers, of each client; nil: not this one
+	jobs   chan call                           // the calls that wait to be done, or waited when they were put in
+	net    *network.Network
 }
 
 // made is what is known of a service that was made.
 type made struct {
 	kind  int
-	alive bool
+	works service.Service // what does its calls, with its state; nil: it is no longer alive
+	done  []api.Entry     // the calls that it has done
 }
 
 // New makes a server without services and names.
-func New() *Server {
-	return &Server{names: map[string]int{}}
+func New(c api.Config, net *network.Network) *Server {
+	return &Server{config: c, names: map[string]int{}, jobs: make(chan call, c.Table), net: net}
 }
 
 // Export begins a service under a name, in the place of the one that is there.
@@ -70,15 +77,25 @@ func (s *Server) Find(name string) (int, int, api.Errno) {
 }
 
 func (s *Server) begin(kind int) int {
-	s.made = append(s.made, made{kind: kind, alive: true})
+	s.made = append(s.made, made{kind: kind, works: service.New(kind)})
 	return len(s.made)
 }
 
+// end ends a service: what it was asked for and has not done, it never does.
 func (s *Server) end(uid int) {
-	s.service(uid).alive = false
+	s.service(uid).works = nil
+	for _, l := range s.remembered() {
+		if l.call.uid == uid && l.state != answered {
+			l.endVoid()
+		}
+	}
 }
 
 func (s *Server) service(uid int) *made { return &s.made[uid-1] }
+
+func (s *Server) wasMade(uid int) bool { return uid >= 1 && uid <= len(s.made) }
+
+func (s *Server) isAlive(uid int) bool { return s.wasMade(uid) && s.service(uid).works != nil }
 
 func isName(name string) bool {
 	if len(name) < 1 || len(name) > api.MaxName {

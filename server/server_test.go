@@ -4,22 +4,27 @@ import (
 	"testing"
 
 	"errand/api"
+	"errand/network"
 )
+
+func newServer() *Server {
+	return New(api.Config{Clients: 3, Lines: 3, Retry: 1, Tries: 1, Table: 1}, &network.Network{})
+}
 
 func testAlive(t *testing.T, s *Server, want ...bool) {
 	t.Helper()
 	if len(s.made) != len(want) {
 		t.Fatalf("P10: %d services were made, want %d", len(s.made), len(want))
 	}
-	for i, m := range s.made {
-		if m.alive != want[i] {
-			t.Errorf("P10: service %d: alive is %t", i+1, m.alive)
+	for i := range s.made {
+		if s.isAlive(i+1) != want[i] {
+			t.Errorf("P10: service %d: alive is %t", i+1, s.isAlive(i+1))
 		}
 	}
 }
 
 func TestServicesEnd(t *testing.T) {
-	s := New()
+	s := newServer()
 	s.Export("sum", api.Counter)
 	s.Export("wall", api.Board)
 	testAlive(t, s, true, true)
@@ -33,7 +38,7 @@ func TestServicesEnd(t *testing.T) {
 }
 
 func TestARefusedExportEndsNothing(t *testing.T) {
-	s := New()
+	s := newServer()
 	for range api.MaxUid {
 		s.Export("sum", api.Counter)
 	}
@@ -42,7 +47,7 @@ func TestARefusedExportEndsNothing(t *testing.T) {
 			t.Errorf("P10: Export = %d, %d", uid, e)
 		}
 	}
-	if len(s.made) != api.MaxUid || !s.service(api.MaxUid).alive {
+	if len(s.made) != api.MaxUid || !s.isAlive(api.MaxUid) {
 		t.Errorf("P1: an Export that was refused has ended the service")
 	}
 }

@@ -1,32 +1,23 @@
-// Package service: the kinds of services and their procedures.
+// Package service: the kinds of services, their procedures, and what those do.
 package service
 
 import "errand/api"
 
-type signature struct {
-	kind, proc       int
-	argument, result string
+// Service is one service, with its state.
+type Service interface {
+	// Do does a call: of a procedure that there is, with a value of its argument's type; it answers one of its result's.
+	Do(proc int, arg []api.Item) []api.Item
 }
 
-var signatures = [...]signature{
-	{api.Counter, 0, "i", "c"},
-	{api.Counter, 1, "b", "c"},
-	{api.Board, 0, "s", "c"},
-	{api.Board, 1, "c", "q4s"},
-	{api.Desk, 0, "r(e3q3i)", "u(bq3i)"},
-}
-
-// Signature tells the types of a procedure's argument and of its result.
-func Signature(kind int, proc int) (string, string, api.Errno) {
-	if !IsKind(kind) {
-		return "", "", api.ErrArg
+// New begins a service of a kind that there is.
+func New(kind int) Service {
+	switch kind {
+	case api.Counter:
+		return &counter{}
+	case api.Board:
+		return &board{}
 	}
-	for _, s := range signatures {
-		if s.kind == kind && s.proc == proc {
-			return s.argument, s.result, api.OK
-		}
-	}
-	return "", "", api.ErrProc
+	return &desk{}
 }
 
 // IsKind tells whether there is such a kind.
