@@ -106,3 +106,41 @@ func TestStatusTellsAResult(t *testing.T) {
 		t.Errorf("P11: Status of the next call = %+v, %d", s, e)
 	}
 }
+
+// TestACrash: nothing of the life before is left, but for what flies.
+func TestACrash(t *testing.T) {
+	c, net := newCalling(t)
+	c.Call(0, 7, 1, []api.Item{{N: 4}})
+	c.Take(api.Packet{Kind: api.Result, Client: 2, Life: 1, Line: 0, Seq: 1, Uid: 7, Part: 0, Of: 1, Body: "\x00\x01\x00\x00"})
+	if s, _ := c.Status(0); s.State != api.Done {
+		t.Fatalf("P14: the State is %d", s.State)
+	}
+	if e := c.Crash(); e != api.OK || c.life != 2 || len(c.bound) != 0 || len(c.lines) != 2 || net.Flying() != 2 {
+		t.Fatalf("P19: Crash() = %d, the client is %+v, %d packets fly", e, c, net.Flying())
+	}
+	for number := range c.lines {
+		if s, e := c.Status(number); s.State != api.Idle || s.Seq != 0 || len(s.Result) != 0 || e != api.OK {
+			t.Errorf("P19: Status(%d) behind a crash = %+v, %d", number, s, e)
+		}
+	}
+	if seq, e := c.Call(1, 7, 1, []api.Item{{N: 4}}); seq != 0 || e != api.ErrBound {
+		t.Errorf("P19: Call behind a crash = %d, %d", seq, e)
+	}
+}
+
+func TestTheLastLifeStays(t *testing.T) {
+	c, _ := newCalling(t)
+	for range api.MaxLife - 1 {
+		if e := c.Crash(); e != api.OK {
+			t.Fatalf("P19: Crash() in life %d = %d", c.life, e)
+		}
+	}
+	c.Bind(7, api.Board)
+	c.Call(1, 7, 1, []api.Item{{N: 4}})
+	if e := c.Crash(); e != api.ErrSpent || c.life != api.MaxLife {
+		t.Errorf("P19: Crash() in the last life = %d, the life is %d", e, c.life)
+	}
+	if s, _ := c.Status(1); s.State != api.Waiting || s.Seq != 1 || len(c.bound) != 1 {
+		t.Errorf("P1: a Crash that was refused has changed the client: %+v", s)
+	}
+}

@@ -71,4 +71,15 @@ func (c *Client) Status(number int) (api.Status, api.Errno) {
 	return api.Status{State: l.state, Seq: l.seq, Result: slices.Clone(l.result)}, api.OK
 }
 
+// Crash begins the client's next life, which knows nothing of those before it.
+func (c *Client) Crash() api.Errno {
+	if c.life == api.MaxLife {
+		return api.ErrSpent
+	}
+	c.life++
+	clear(c.bound)
+	clear(c.lines)
+	return api.OK
+}
+
 func (c *Client) hasLine(number int) bool { return number >= 0 && number < len(c.lines) }

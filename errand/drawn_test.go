@@ -93,7 +93,7 @@ type action struct {
 
 func actions() []action {
 	return []action{
-		{1, bothWorlds.drawExport}, {1, bothWorlds.drawWithdraw}, {5, bothWorlds.drawImport},
+		{1, bothWorlds.drawExport}, {1, bothWorlds.drawWithdraw}, {5, bothWorlds.drawImport}, {1, bothWorlds.drawCrash},
 		{30, func(b bothWorlds, r *rand.Rand) string { return b.drawCall(r, b.drawClient(r), b.drawLine(r)) }},
 		{15, func(b bothWorlds, r *rand.Rand) string { b.tick(); return "Tick" }},
 		{2, bothWorlds.drawLook}, {3, bothWorlds.drawDrop}, {5, bothWorlds.drawCopy}, {2, bothWorlds.drawBend},
@@ -153,6 +153,32 @@ func (b bothWorlds) drawImport(r *rand.Rand) string {
 	client, name := b.drawClient(r), drawName(r)
 	b.bind(client, name)
 	return fmt.Sprintf("Import(%d, %q)", client, name)
+}
+
+// drawCrash lets a host crash; calls go on at once behind half of the crashes, so that packets of earlier lives meet them.
+func (b bothWorlds) drawCrash(r *rand.Rand) string {
+	b.t.Helper()
+	host := drawNear(r, -1, b.words.config.Clients-1)
+	behind := fmt.Sprintf("Crash(%d), which is %d", host, b.crash(host))
+	if r.Intn(2) == 0 {
+		b.look(behind)
+		b.beginAgain(r)
+		behind += ", and a new beginning"
+	}
+	return behind
+}
+
+// beginAgain lets some names stand for new services, and binds all clients to all names.
+func (b bothWorlds) beginAgain(r *rand.Rand) {
+	b.t.Helper()
+	for _, name := range slices.Sorted(maps.Keys(b.words.names)) {
+		if r.Intn(2) == 0 {
+			b.export(name, r.Intn(3))
+		}
+		for client := range b.words.config.Clients {
+			b.bind(client, name)
+		}
+	}
 }
 
 func (b bothWorlds) drawLook(r *rand.Rand) string {

@@ -30,10 +30,23 @@ func newLooseClient(t *testing.T, c api.Config) looseClient {
 	l := looseClient{t, net, caller.New(1, c, net), words}
 	for kind, name := range []string{"sum", "wall", "desk"} {
 		words.export(name, kind)
-		words.bind(1, name)
+	}
+	l.bindAll()
+	return l
+}
+
+func (l looseClient) bindAll() {
+	for kind, name := range []string{"sum", "wall", "desk"} {
+		l.words.bind(1, name)
 		l.client.Bind(kind+1, kind)
 	}
-	return l
+}
+
+func (l looseClient) crash() {
+	l.t.Helper()
+	if e, want := l.client.Crash(), l.words.crash(1); e != want {
+		l.t.Fatalf("P19: Crash() = %d, want %d", e, want)
+	}
 }
 
 // call makes a call, and tells the words which result it is to have.
@@ -173,6 +186,27 @@ func looseClientCases() []looseClientCase {
 			l.tick()
 		}},
 		{"another call behind one that is done", func(l looseClient) { l.show(); l.results(5); l.exchange() }},
+		{"crashed, acked 1 of 3", func(l looseClient) { l.post(); l.acks(1); l.crash() }},
+		{"crashed, has 2 of 5", func(l looseClient) { l.show(); l.results(2); l.crash() }},
+		{"crashed, done", func(l looseClient) { l.show(); l.results(5); l.crash() }},
+		{"crashed, another call, acked 0 of 3", func(l looseClient) { l.show(); l.results(2); l.crash(); l.bindAll(); l.post() }},
+		{"crashed, another call, acked 2 of 3", func(l looseClient) {
+			l.post()
+			l.acks(3)
+			l.crash()
+			l.bindAll()
+			l.post()
+			l.acks(2)
+		}},
+		{"crashed, another call, has 1 of 5", func(l looseClient) {
+			l.show()
+			l.results(4)
+			l.crash()
+			l.bindAll()
+			l.show()
+			l.results(1)
+		}},
+		{"crashed, another call, done", func(l looseClient) { l.exchange(); l.crash(); l.bindAll(); l.show(); l.results(5) }},
 		{"another call behind one that was refused", func(l looseClient) { l.exchange(); l.acks(1); l.take(l.packet(2, api.Reject, 1, 2)); l.show() }},
 	}
 }

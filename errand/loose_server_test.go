@@ -47,6 +47,11 @@ func (l looseServer) withdraw(name string) {
 	l.words.withdraw(name)
 }
 
+func (l looseServer) crash() {
+	l.server.Crash()
+	l.words.serverCrash()
+}
+
 // ask tells the words which call that is.
 func (l looseServer) ask(c callByWords, uid, proc int, arg []api.Item) {
 	kind := api.Counter
@@ -244,12 +249,46 @@ func looseCases() []looseCase {
 			l.fillTable()
 			l.withdraw("desk")
 		}},
+		{"a crash behind it", func(l looseServer) { l.askToPost(); l.takeCall(looseCall, 2); l.crash() }},
+		{"a crash behind an earlier call", func(l looseServer) { l.crashBefore(); l.askToNew() }},
+		{"gathering, 1 of 2, behind a crash", func(l looseServer) { l.crashBefore(); l.askToNew(); l.takeCall(looseCall, 1) }},
+		{"waiting behind a crash", func(l looseServer) { l.crashBefore(); l.askToNew(); l.takeWhole(looseCall) }},
+		{"answered behind a crash", func(l looseServer) { l.crashBefore(); l.askToNew(); l.takeWhole(looseCall); l.serve() }},
+		{"a crash behind a greater life", func(l looseServer) { l.greaterLife(); l.crash(); l.askToNew() }},
+		{"a crash, then a greater life", func(l looseServer) { l.crash(); l.greaterLife(); l.askToNew() }},
+		{"a crash behind a full queue", func(l looseServer) { l.fillQueue(); l.crash(); l.askToNew() }},
+		{"waiting behind a crash of a full queue", func(l looseServer) { l.fillQueue(); l.crash(); l.askToNew(); l.takeWhole(looseCall) }},
+		{"a crash behind a full table", func(l looseServer) { l.fillTable(); l.crash(); l.askToNew() }},
+		{"a crash of a result that was under way", func(l looseServer) { l.answeredAt(1); l.crash() }},
 	}
 }
 
 func before(c callByWords) callByWords {
 	c.seq--
 	return c
+}
+
+// crashBefore lets the server crash when the call ahead of that one waits.
+func (l looseServer) crashBefore() {
+	l.t.Helper()
+	l.askBefore()
+	l.takeWhole(before(looseCall))
+	l.crash()
+}
+
+// askToNew makes the call one of two pieces, of a service that is made for it.
+func (l looseServer) askToNew() {
+	l.export("wall", api.Board)
+	l.ask(looseCall, len(l.words.kinds), 0, items("hello"))
+}
+
+// greaterLife lets a packet come of the life behind that of the call.
+func (l looseServer) greaterLife() {
+	l.t.Helper()
+	c := looseCall
+	c.life++
+	l.ask(c, 1, 1, items(1))
+	l.takeWhole(c)
 }
 
 // askBefore makes the call ahead of that one be of the Desk, with two pieces.
@@ -341,6 +380,9 @@ func (l looseServer) drawLoose(r *rand.Rand) api.Packet {
 	if r.Intn(30) == 0 {
 		c.life = max(1, near(c.life))
 	}
+	if l.words.server.greatest[c.client] == 0 {
+		c.life = drawWithin(r, 1, 200)
+	}
 	known := l.words.server.table[[2]int{c.client, c.line}]
 	if known != nil {
 		c.seq = max(1, near(known.call.seq))
@@ -377,7 +419,7 @@ func drawRightArgument(r *rand.Rand, kind, proc int) []api.Item {
 	}
 }
 
-// TestDrawnPacketsAtTheServer hands over many packets, of lives that go on and of calls that overtake one another.
+// TestDrawnPacketsAtTheServer hands over many packets, of lives that go on, of calls that overtake one another, and of those ahead of a crash.
 func TestDrawnPacketsAtTheServer(t *testing.T) {
 	r := rand.New(rand.NewSource(15))
 	for range 150 {
@@ -396,6 +438,12 @@ func TestDrawnPacketsAtTheServer(t *testing.T) {
 			case 7, 8, 9, 10:
 				l.tick()
 				behind = "Tick"
+			case 11:
+				if r.Intn(10) == 0 {
+					l.crash()
+					l.export("sum", r.Intn(3))
+					behind = "Crash"
+				}
 			default:
 				p := l.drawLoose(r)
 				behind = told(p)

@@ -6,7 +6,7 @@ import (
 	"errand/api"
 )
 
-// serverByWords is what the document says of the server in P15 to P18.
+// serverByWords is what the document says of the server in P15 to P19.
 type serverByWords struct {
 	services []serviceByWords
 	greatest [3]int
@@ -42,6 +42,16 @@ func (w *worldByWords) end(uid int) {
 			r.state = "void"
 		}
 	}
+}
+
+// serverCrash lets the server forget all but the services' logs.
+func (w *worldByWords) serverCrash() {
+	for i := range w.ended {
+		w.ended[i] = true
+	}
+	w.server.greatest = [3]int{}
+	w.server.table = map[[2]int]*rememberedByWords{}
+	w.server.queue = nil
 }
 
 // serverTakes is what P15 and P16 say of a packet that comes to the server.

@@ -6,7 +6,7 @@ import (
 	"errand/api"
 )
 
-// worldByWords is what the document says of a world in P9 to P18, written out plainly, with nothing of the program in it. It reads no messages: it knows which calls were made.
+// worldByWords is what the document says of a world in P9 to P19, written out plainly, with nothing of the program in it. It reads no messages: it knows which calls were made.
 type worldByWords struct {
 	config api.Config
 	names  map[string]int
@@ -215,6 +215,23 @@ func (w *worldByWords) status(client, line int) (api.Status, api.Errno) {
 	}
 	l := w.lines[client][line]
 	return api.Status{State: l.state, Seq: l.seq, Result: l.result}, 0
+}
+
+// crash is P19.
+func (w *worldByWords) crash(host int) api.Errno {
+	switch {
+	case host == -1:
+		w.serverCrash()
+		return 0
+	case !w.hasClient(host):
+		return 13
+	case w.life[host] == 255:
+		return 11
+	}
+	w.life[host]++
+	w.lines[host] = [3]lineByWords{}
+	w.bound[host] = map[int]int{}
+	return 0
 }
 
 // callOn is the last call of a line in this life.

@@ -139,5 +139,14 @@ func (w *World) Log(uid int) (int, api.Errno) { return w.server.Log(uid) }
 // Entry tells a call that a service has done (P18).
 func (w *World) Entry(uid int, k int) (api.Entry, api.Errno) { return w.server.Entry(uid, k) }
 
-// Crash begins a host anew (P19).
-func (w *World) Crash(host int) api.Errno { return api.OK }
+// Crash lets a host begin anew (P19).
+func (w *World) Crash(host int) api.Errno {
+	if host == api.Server {
+		w.server.Crash()
+		return api.OK
+	}
+	if !w.hasClient(host) {
+		return api.ErrClient
+	}
+	return w.clients[host].Crash()
+}

@@ -196,6 +196,15 @@ func (b bothWorlds) serve() api.Errno {
 	return e
 }
 
+func (b bothWorlds) crash(host int) api.Errno {
+	b.t.Helper()
+	e := b.world.Crash(host)
+	if want := b.words.crash(host); e != want {
+		b.t.Fatalf("P19: Crash(%d) = %d, want %d", host, e, want)
+	}
+	return e
+}
+
 func (b bothWorlds) drop(i int) {
 	b.t.Helper()
 	if e, want := b.world.Drop(i), b.words.drop(i); e != want {

@@ -12,13 +12,21 @@ import (
 // Server is that host.
 type Server struct {
 	config api.Config
-	names  map[string]int                      // the registry: the uid of the service for which each name stands
-	made   []made                              // every service that was made, that with the uid 1 first
-	lives  [api.MaxClients]int                 // of each client, the greatest life of which a packet came
-	lines  [api.MaxClients][api.MaxLines]*line // those that it remembers, of each client; nil: not this one
-	jobs   chan call                           // the calls that wait to be done, or waited when they were put in
-	net    *network.Network
+	names  map[string]int // the registry: the uid of the service for which each name stands
+	made   []made         // every service that was made, that with the uid 1 first
+	memory
+	net *network.Network
 }
+
+// memory is what the server knows of the clients' calls, until it crashes.
+type memory struct {
+	lives [api.MaxClients]int                 // of each client, the greatest life of which a packet came
+	lines [api.MaxClients][api.MaxLines]*line // those that it remembers, of each client; nil: not this one
+	jobs  chan call                           // the calls that wait to be done, or waited when they were put in
+}
+
+// newMemory is that of a server to which nothing has come.
+func newMemory(table int) memory { return memory{jobs: make(chan call, table)} }
 
 // made is what is known of a service that was made.
 type made struct {
@@ -29,7 +37,7 @@ type made struct {
 
 // New makes a server without services and names.
 func New(c api.Config, net *network.Network) *Server {
-	return &Server{config: c, names: map[string]int{}, jobs: make(chan call, c.Table), net: net}
+	return &Server{config: c, names: map[string]int{}, memory: newMemory(c.Table), net: net}
 }
 
 // Export begins a service under a name, in the place of the one that is there.
@@ -89,6 +97,14 @@ func (s *Server) end(uid int) {
 			l.endVoid()
 		}
 	}
+}
+
+// Crash ends all services, and lets the server forget what it was asked for; if it is asked for that again, it is not done twice, as the service is dead. The registry and the logs stay.
+func (s *Server) Crash() {
+	for i := range s.made {
+		s.end(i + 1)
+	}
+	s.memory = newMemory(s.config.Table)
 }
 
 func (s *Server) service(uid int) *made { return &s.made[uid-1] }
